@@ -1,0 +1,1 @@
+"""Lazyrails: a toy railway whose only memory is its points."""
