@@ -112,6 +112,29 @@ class Yard:
             self.rung.append(self.notes[piece])
         self.engine_end = end
 
+    def take_back(self):
+        """Takes back the last step of the trail, which has one."""
+        end, side = self.trail.pop()
+        piece = end[0]
+        if piece in self.rods_under:
+            self.sides[self.rods_under[piece]] = side
+        if piece in self.notes:
+            self.rung.pop()
+        self.engine_end = end
+
+    def make_twin(self):
+        """Another yard, like this one but for its trail."""
+        other = Yard()
+        other.next_piece = self.next_piece
+        other.kinds = dict(self.kinds)
+        other.notes = dict(self.notes)
+        other.rods_under = dict(self.rods_under)
+        other.sides = list(self.sides)
+        other.mates = dict(self.mates)
+        other.engine_end = self.engine_end
+        other.rung = list(self.rung)
+        return other
+
     def pieces(self):
         """The numbers of the pieces that are there, rising."""
         # Pieces are laid by rising numbers, and a dict keeps that order.
