@@ -16,7 +16,7 @@ def told(yard):
             (piece, end): yard.mate((piece, end)) for piece in kinds for end in range(ends_of(kinds[piece]))
         },
         "engine": yard.engine(),
-        "bells": yard.bells(),
+        "bells": list(yard.bells()),
         "steps": yard.steps(),
     }
 
