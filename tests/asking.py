@@ -21,6 +21,13 @@ def told(yard):
     }
 
 
+def told_without_trail(yard):
+    """All that another yard must tell that is like this one but for its trail."""
+    found = told(yard)
+    found["steps"] = 0
+    return found
+
+
 def numbers_to_come(yard):
     """The numbers of the next piece and the next rod. The yard is used up by asking."""
     return (yard.lay("line"), yard.new_rod())

@@ -3,6 +3,7 @@
 import random
 
 from lazyrails.program import Program
+from lazyrails.reach import reached
 
 FAR = 10 ** 39
 
@@ -132,6 +133,17 @@ class Plain:
                 yield from self.places_in(parts[0], callers + [(stretch, at)])
             else:
                 return
+
+
+def anew_by_place(program):
+    """For each reached row its place in the trimmed program; None, the place behind the end, stays."""
+    places = reached(program)
+    kept = sorted({stretch for stretch, row in places})
+    anew = {None: None}
+    for stretch, row in places:
+        rows = [at for found, at in places if found == stretch]
+        anew[(stretch, row)] = (kept.index(stretch), rows.index(row))
+    return anew
 
 
 def told_program(program):

@@ -5,7 +5,9 @@ import unittest
 from lazyrails.program import Program
 from lazyrails.reach import reached, trimmed
 from lazyrails.reader import Reader
-from tests.programs import MARKS, WIDTHS, chain, greatest_program, random_program, sample, told_program, told_reader
+from tests.programs import (
+    MARKS, WIDTHS, anew_by_place, chain, greatest_program, random_program, sample, told_program, told_reader,
+)
 
 END = ("end",)
 
@@ -188,12 +190,7 @@ class Trimmed(unittest.TestCase):
 
     def read_alike(self, program, other):
         """Both readings go on in step, each row of the one at the row of the other that it was made of."""
-        places = reached(program)
-        kept = sorted({stretch for stretch, row in places})
-        anew = {None: None}
-        for stretch, row in places:
-            rows = [at for found, at in places if found == stretch]
-            anew[(stretch, row)] = (kept.index(stretch), rows.index(row))
+        anew = anew_by_place(program)
         reader, second = Reader(program), Reader(other)
         for count in range(100):
             where, callers, marks, counts, heard = told_reader(reader, program)

@@ -127,7 +127,9 @@ class Rows(unittest.TestCase):
         self.assertEqual((reader.where(), reader.callers(), reader.heard()), (None, [], [1, 4]))
 
     def test_one_stretch_called_from_several_rows(self):
-        program = Program([], [], [[("call", 2), ("call", 1), ("call", 2), END], [("call", 2), END], [("bell", 2), END]])
+        program = Program([], [], [
+            [("call", 2), ("call", 1), ("call", 2), END], [("call", 2), END], [("bell", 2), END],
+        ])
         reader = Reader(program)
         found = []
         while reader.step():

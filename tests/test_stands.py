@@ -6,18 +6,11 @@ from lazyrails.engine import back, run
 from lazyrails.errors import NoBell, NoStand
 from lazyrails.stands import Shelf, twin
 from lazyrails.yard import Yard
-from tests.asking import numbers_to_come, stepped_yard, told
+from tests.asking import numbers_to_come, stepped_yard, told, told_without_trail
 from tests.deeds import DEEDS, REFUSED, do
 from tests.plainly import random_yard
 
 FAR = 10 ** 39
-
-
-def told_without_trail(yard):
-    """All that a twin of the yard must tell."""
-    found = told(yard)
-    found["steps"] = 0
-    return found
 
 
 def copying(copy):
